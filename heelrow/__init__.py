@@ -1,0 +1,1 @@
+"""Heelrow: who is called goes to stand right behind whom they follow."""

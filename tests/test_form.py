@@ -1,0 +1,101 @@
+"""The rules of ../shared/LANGUAGE.md that can be seen off the package's files by a short look."""
+
+import ast
+import os
+import re
+import unittest
+
+PACKAGE = os.path.join(os.path.dirname(os.path.dirname(os.path.abspath(__file__))), "heelrow")
+WORDS = (
+    "type typing typing_extensions enum Enum IntEnum StrEnum Flag IntFlag Generic Protocol ABC ABCMeta namedtuple "
+    "NamedTuple TypedDict TYPE_CHECKING abstractmethod"
+).split()
+INSIDE = ("dataclass", "overload", "contextmanager")
+
+
+def files():
+    """Each file's name with its text."""
+    found = {}
+    for name in sorted(os.listdir(PACKAGE)):
+        if name != "__pycache__":
+            with open(os.path.join(PACKAGE, name), encoding="utf-8", newline="") as held:
+                found[name] = held.read()
+    return found
+
+
+def nodes():
+    """Each node of each file, with the file's name."""
+    return [(name, node) for name, text in files().items() for node in ast.walk(ast.parse(text))]
+
+
+class Files(unittest.TestCase):
+    def test_names(self):
+        for name in files():
+            self.assertRegex(name, r"^([a-z][a-z0-9_]*|__init__|__main__)\.py$")
+        self.assertIn("__init__.py", files())
+
+    def test_signs_and_sizes(self):
+        for name, text in files().items():
+            self.assertRegex(text, r"\A[\n -~]*\Z", name)
+            rows = text.split("\n")
+            self.assertLessEqual(len(rows), 399, name)
+            self.assertLessEqual(max(len(row) for row in rows), 120, name)
+
+    def test_words(self):
+        for name, text in files().items():
+            for word in WORDS:
+                self.assertIsNone(re.search(r"\b" + word + r"\b", text), (name, word))
+            for word in INSIDE:
+                self.assertNotIn(word, text, name)
+
+
+class Code(unittest.TestCase):
+    def test_functions_are_short(self):
+        for name, node in nodes():
+            if isinstance(node, ast.FunctionDef):
+                self.assertLessEqual(node.end_lineno - node.lineno + 1, 40, (name, node.name))
+
+    def test_imports(self):
+        for name, node in nodes():
+            self.assertNotIsInstance(node, ast.Import, name)
+            if isinstance(node, ast.ImportFrom):
+                self.assertEqual(node.level, 0, name)
+                self.assertRegex(node.module, r"^heelrow\.[a-z]+$")
+                self.assertNotIn("*", [one.name for one in node.names])
+
+    def test_is(self):
+        for name, node in nodes():
+            if isinstance(node, ast.Compare):
+                for sign, right in zip(node.ops, node.comparators):
+                    if isinstance(sign, (ast.Is, ast.IsNot)):
+                        self.assertIsInstance(right, ast.Constant, (name, node.lineno))
+                        self.assertIn(right.value, (None, True, False), (name, node.lineno))
+
+    def test_no_floats_and_no_percent_in_texts(self):
+        for name, node in nodes():
+            self.assertNotIsInstance(node, ast.Div, name)
+            if isinstance(node, ast.Constant):
+                self.assertNotIsInstance(node.value, float, name)
+                if isinstance(node.value, str):
+                    self.assertNotIn("%", node.value, name)
+
+    def test_no_name_is_a_method_and_an_attribute(self):
+        methods, attributes = set(), set()
+        for name, node in nodes():
+            if isinstance(node, ast.ClassDef):
+                methods |= {one.name for one in node.body if isinstance(one, ast.FunctionDef)}
+            if isinstance(node, ast.Attribute) and isinstance(node.ctx, ast.Store):
+                attributes.add(node.attr)
+        self.assertEqual(methods & attributes, set())
+
+    def test_lists_for_any_and_its_kin(self):
+        # A class of the package has __eq__, so these take no bare generator.
+        for name, node in nodes():
+            if isinstance(node, ast.Call) and isinstance(node.func, ast.Name):
+                if node.func.id in ("any", "all", "min", "max", "sum", "sorted"):
+                    for one in node.args:
+                        self.assertNotIsInstance(one, ast.GeneratorExp, (name, node.lineno))
+
+
+if __name__ == "__main__":
+    unittest.main()
