@@ -5,3 +5,11 @@ BIG = 10 ** 30
 
 MOST_LETTERS = 6
 MOST_PERSONS = 12
+MOST_CALLS = 400
+MOST_COUNTED_CALLS = 30
+
+
+def is_whole(thing, low, high):
+    """Whether a thing of any kind is a whole number from LOW to HIGH."""
+    # Truths are ints to Python, but no whole numbers here.
+    return isinstance(thing, int) and not isinstance(thing, bool) and low <= thing <= high

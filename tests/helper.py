@@ -1,5 +1,8 @@
 """What several tests share: sample webs, wrong things, and how a refusal is looked at."""
 
+import itertools
+import random
+
 from heelrow import errors
 from heelrow.webs import Web
 
@@ -73,3 +76,198 @@ def has_ring(persons):
         if not done:
             return bool(left)
         left = {name: left[name] for name in left if name not in done}
+
+
+def wrong_kinds():
+    """Things of many kinds, none of which is a tuple, a text that is a NAME, or a Web."""
+    return [
+        None, True, False, 0, 1, -1, 7, 10 ** 6000, "", "zz top", "a, b", [], ["a"], ["a", "b", "c", "d"],
+        [("a",), ("b",)], {}, {"a": None}, {"a": "b", "b": "a"}, set(), frozenset("ab"), b"ab", bytearray(b"a"),
+        range(4), Odd(), Web, len, [[[[[[[[["a"]]]]]]]]], {"a": [{"b": ("c",)}]},
+    ]
+
+
+def wrong_webs():
+    """(thing, class, field) of things that are no Web."""
+    return [(thing, "NoWeb", None) for thing in wrong_kinds() + ["a", (), CHAIN, ALONE, (("a", "b"),), "a\nb > a"]]
+
+
+def wrong_rows():
+    """(thing, class, place) of things that are no ROW of CHAIN, nor of STAR."""
+    found = [(thing, None) for thing in wrong_kinds() + ["a", "abcd", Web(CHAIN)]]
+    found += [((), None), (("a",), None), (("b", "a"), None), (("a", "b", "no"), 2), (("no",), 0), ((None,), 0)]
+    found += [(("a", "b", "a", "a"), 2), (("a", "a"), 1), (("b", "b", "no", "a"), 1), (("a", 1, "a"), 1), ((1, 1), 0)]
+    found += [(("a", True, "b", "b"), 1), ((("a", "b"),), 0), (("a", ["b"], "b"), 1), (("b", {}, "a", "a"), 1)]
+    found += [(("a", "b", "B"), 2), (("a", "b", ""), 2), (("a", set()), 1), ((b"a", "a"), 0), (("a", 10 ** 6000), 1)]
+    found += [(("a", "b") * 50000, 2), ((Odd(),) * 3, 0), (("a", "b", ((((((((("c",),),),),),),),),)), 2)]
+    return [(thing, "NoRow", place) for thing, place in found]
+
+
+def wrong_calls():
+    """(thing, class, place) of things that are no CALLS of CHAIN."""
+    found = [(thing, None) for thing in wrong_kinds() + ["b", "bcd", Web(CHAIN)]]
+    found += [(("b",) * 401, None), ((None,) * 401, None), (("a",) + ("b",) * 400, None), ((["b"],) * 5000, None)]
+    found += [(("a",), 0), (("b", "a"), 1), (("b", "c", "no", "a"), 2), ((None,), 0), (("b", True), 1), ((0,), 0)]
+    found += [(("b",) * 399 + ("a",), 399), (("b",) * 399 + (None,), 399), (("b", ["c"]), 1), ((("b", "c"),), 0)]
+    found += [(("d", "c", {}), 2), (("d", "c", set(), 5), 2), ((b"b",), 0), (("d", "D"), 1), (("c", Odd()), 1)]
+    return [(thing, "NoCalls", place) for thing, place in found]
+
+
+def wrong_piles():
+    """(thing, class, place) of things that are no PILES of CHAIN."""
+    found = [(thing, None) for thing in wrong_kinds() + ["b", "abcd", Web(CHAIN)]]
+    found += [((), None), ((("a", "b", "c", "d"),), None), ((("a",), ("b",), ("c",)), None), ((1, 2, 3), None)]
+    found += [((("a",), ("b",), ("c",), ("d",), ()), None), (((),) * 4, None), ((("a",), ("b",), ("c",), ()), None)]
+    found += [(("a", "b", "c", "d"), 0), ((("a",), ["b"], ("c",), ("d",)), 1), ((("a",), ("b",), None, ("a",)), 2)]
+    found += [((("a",), ("b", "no"), 5, 5), 1), ((("a", "a"), ("b",), ("c",), ("d",)), 0), (((), (), (), (1,)), 3)]
+    found += [((("a",), ("b",), ("c", "a"), ("d",)), 2), ((("a",), ("b", "b"), ("c",), None), 1), (((), (), (), "d"), 3)]
+    found += [((("a", ["b"]), ("b",), ("c",), ("d",)), 0), ((("a",), (("b",),), ("c",), ("d",)), 1)]
+    found += [((("a", "b", "c", "d"), (), (), ("zz",)), 3), ((("a", "b", "c", "d"), (), (), ("d",)), 3)]
+    found += [((("a", {}), (), (), ()), 0), ((("a", True), (), (), ()), 0), (((), None, (), ("a",)), 1)]
+    return [(thing, "NoPiles", place) for thing, place in found]
+
+
+def wrong_names_of(web):
+    """(thing, class, thing) of things that are no NAME of the web."""
+    return [(thing, "NoName", thing) for thing in wrong_names() + [None, "no", "zz"] if thing not in web.names()]
+
+
+def wrong_wholes(name, low, high):
+    """(thing, class, thing) of things that are no whole number from LOW to HIGH."""
+    found = [True, False, None, "1", "", [], [1], (), (1,), {}, {1: 1}, b"1", Odd(), Web(CHAIN), len, set(), "a"]
+    return [(thing, name, thing) for thing in found + [low - 1, low - 2, high + 1, -10 ** 40, 10 ** 40, 10 ** 6000]]
+
+
+def frozen(thing):
+    """What can be told of a thing by which a change in it is seen."""
+    if isinstance(thing, Web):
+        return ("Web", thing.persons)
+    if isinstance(thing, (list, tuple)):
+        return (type(thing), [frozen(one) for one in thing])
+    if isinstance(thing, dict):
+        return ("dict", [(frozen(key), frozen(thing[key])) for key in thing])
+    if isinstance(thing, (set, bytearray)):
+        return (type(thing), sorted(thing))
+    return ("itself", id(thing))
+
+
+def check_refused(test, function, given, name, field):
+    """Each way to hand in the arguments is refused by this class, with this field, and changes nothing."""
+    was = frozen(given)
+    told = refusal(test, name, lambda: function(**given))
+    if FIELDS[name] is not None:
+        test.assertIs(type(getattr(told, FIELDS[name])), type(field), (name, list(given)))
+        test.assertEqual(getattr(told, FIELDS[name]), field)
+    under = [base for base in BASES if isinstance(told, getattr(errors, base))]
+    test.assertEqual(len(under), 1)
+    test.assertEqual(frozen(given), was)
+
+
+def check_refusals(test, function, good, wrong):
+    """GOOD are arguments by name, from the left, that are taken; WRONG are (name, [(thing, class, field)]).
+
+    Each wrong thing is handed in alone, and beside wrong ones for arguments further right: the left one is refused.
+    """
+    function(**good)
+    for at, (argument, things) in enumerate(wrong):
+        for thing, name, field in things:
+            check_refused(test, function, {**good, argument: thing}, name, field)
+        for other, more in wrong[at + 1:]:
+            for k in range(max(len(things), len(more))):
+                thing, name, field = things[k % len(things)]
+                given = {**good, argument: thing, other: more[k % len(more)][0]}
+                check_refused(test, function, given, name, field)
+        all_wrong = {other: more[-1][0] for other, more in wrong[at:]}
+        check_refused(test, function, {**good, **all_wrong}, things[-1][1], things[-1][2])
+
+
+def check_told(test, function, given, want):
+    """By place and by their names, and again, the same is told, and what was handed in stays as it was."""
+    was = frozen(given)
+    for told in (function(*given.values()), function(**given), function(**dict(reversed(list(given.items()))))):
+        test.assertEqual(told, want)
+        test.assertIs(type(told), type(want))
+    test.assertEqual(frozen(given), was)
+
+
+def drawn_web(chance, many):
+    """A web of so many persons that came of joined, turned and parted."""
+    names = chance.sample(["a", "aa", "ab", "b", "bo", "cy", "dee", "e", "fay", "g", "hal", "i", "jo", "kit", "zz"], many)
+    web = Web(((names[0], None),))
+    for name in names[1:]:
+        web = web.joined(name, chance.choice(web.names() + (None,)))
+    for step in range(chance.randrange(3)):
+        name = chance.choice(web.names())
+        free = [whom for whom in web.names() if whom != name and whom not in web.below(name)]
+        web = web.turned(name, chance.choice(free + [None]))
+    if many < 12:
+        web = web.joined("x", chance.choice(web.names() + (None,))).parted("x")
+    return web
+
+
+def drawn_webs(seed, each):
+    """EACH webs of one to twelve persons, and the samples."""
+    chance = random.Random(seed)
+    return [Web(persons) for persons in SAMPLES] + [drawn_web(chance, many) for many in range(1, 13) for k in range(each)]
+
+
+def drawn_row(chance, web):
+    return tuple(chance.sample(web.names(), len(web)))
+
+
+def drawn_calls(chance, web, many):
+    return tuple(chance.choice(web.callable()) for k in range(many)) if web.callable() else ()
+
+
+def all_rows(web):
+    """Every ROW of a small web, rising."""
+    return list(itertools.permutations(web.names()))
+
+
+def all_piles(web):
+    """Every PILES of a small web."""
+    many = len(web)
+    found = []
+    for row in all_rows(web):
+        for cuts in itertools.combinations_with_replacement(range(many + 1), many - 1):
+            ends = (0,) + cuts + (many,)
+            found.append(tuple(row[ends[k]:ends[k + 1]] for k in range(many)))
+    return sorted(set(found))
+
+
+def plain_called(web, row, name):
+    """The row behind a call, reckoned by stepping out and in."""
+    row = list(row)
+    row.remove(name)
+    row.insert(row.index(dict(web.persons)[name]) + 1, name)
+    return tuple(row)
+
+
+def plain_done(web, row, calls):
+    for name in calls:
+        row = plain_called(web, row, name)
+    return row
+
+
+def plain_laid(web, row, piles):
+    names = [name for name, whom in web.persons]
+    return sum((piles[names.index(name)] for name in row), ())
+
+
+def plain_follows(web):
+    """Who follows, read off the persons."""
+    return [name for name, whom in web.persons if whom is not None]
+
+
+def comes_from(web, row):
+    """All rows that come from a ROW by any calls, itself too."""
+    found = {row}
+    left = [row]
+    while left:
+        at = left.pop()
+        for name in plain_follows(web):
+            told = plain_called(web, at, name)
+            if told not in found:
+                found.add(told)
+                left.append(told)
+    return found

@@ -1,6 +1,7 @@
 """The rules of ../shared/LANGUAGE.md that can be seen off the package's files by a short look."""
 
 import ast
+import builtins
 import os
 import re
 import unittest
@@ -11,6 +12,16 @@ WORDS = (
     "NamedTuple TypedDict TYPE_CHECKING abstractmethod"
 ).split()
 INSIDE = ("dataclass", "overload", "contextmanager")
+FUNCTIONS = {
+    "webs": ("is_name(thing)",),
+    "rows": ("is_row(web, thing)", "called(web, row, name)", "done(web, row, calls)"),
+    "piles": (
+        "laid(web, row, piles)", "piles(web, calls)", "behind(web, piles, other)", "again(web, piles, times)",
+        "alike(web, calls, other)", "parting(web, calls, other)", "idle(web, calls)",
+    ),
+    "runs": ("bar(web, piles)", "runs(web, piles)", "fewest(web, piles)", "how_many(web, piles)"),
+    "rests": ("is_rest(web, row, thing)", "rests_many(web)", "rest_at(web, row, number)", "number_of(web, row, rest)"),
+}
 
 
 def files():
@@ -95,6 +106,68 @@ class Code(unittest.TestCase):
                 if node.func.id in ("any", "all", "min", "max", "sum", "sorted"):
                     for one in node.args:
                         self.assertNotIsInstance(one, ast.GeneratorExp, (name, node.lineno))
+
+    def test_no_name_is_a_builtin_or_an_import(self):
+        for name, text in files().items():
+            tree = ast.parse(text)
+            taken = set(dir(builtins)) | {node.name for node in tree.body if isinstance(node, ast.ClassDef)}
+            for node in ast.walk(tree):
+                if isinstance(node, ast.ImportFrom):
+                    taken |= {one.name for one in node.names}
+            for node in ast.walk(tree):
+                if isinstance(node, ast.Name) and isinstance(node.ctx, ast.Store):
+                    self.assertNotIn(node.id, taken, (name, node.lineno))
+                if isinstance(node, ast.arg):
+                    self.assertNotIn(node.arg, taken, (name, node.lineno))
+            for node in tree.body:
+                if isinstance(node, ast.FunctionDef):
+                    self.assertNotIn(node.name, taken, (name, node.lineno))
+
+    def test_names_are_plain(self):
+        for name, node in nodes():
+            if isinstance(node, ast.Name):
+                self.assertRegex(node.id, r"^[A-Za-z][A-Za-z0-9_]*$", (name, node.lineno))
+            if isinstance(node, ast.arg):
+                self.assertRegex(node.arg, r"^[a-z][a-z0-9_]*$", (name, node.lineno))
+
+    def test_no_two_files_import_from_each_other(self):
+        needs = {}
+        for name, text in files().items():
+            modules = [node.module for node in ast.walk(ast.parse(text)) if isinstance(node, ast.ImportFrom)]
+            needs[name] = {module.split(".")[1] + ".py" for module in modules}
+        while needs:
+            free = [name for name in needs if not needs[name] & set(needs)]
+            self.assertNotEqual(free, [], sorted(needs))
+            needs = {name: needs[name] for name in needs if name not in free}
+
+    def test_each_import_names_the_file_that_defines_it(self):
+        for name, text in files().items():
+            for node in ast.walk(ast.parse(text)):
+                if isinstance(node, ast.ImportFrom):
+                    found = defined(files()[node.module.split(".")[1] + ".py"])
+                    for one in node.names:
+                        self.assertIn(one.name, found, (name, node.module))
+
+
+def defined(text):
+    """The names that a file's text defines itself."""
+    found = []
+    for node in ast.parse(text).body:
+        if isinstance(node, (ast.FunctionDef, ast.ClassDef)):
+            found.append(node.name)
+        if isinstance(node, ast.Assign):
+            found.append(node.targets[0].id)
+    return found
+
+
+class Interface(unittest.TestCase):
+    def test_each_function_stands_in_its_file_with_its_arguments(self):
+        for name, functions in FUNCTIONS.items():
+            text = files()[name + ".py"]
+            heads = {node.name: ast.unparse(node.args) for node in ast.parse(text).body if isinstance(node, ast.FunctionDef)}
+            for one in functions:
+                function, arguments = one.rstrip(")").split("(")
+                self.assertEqual(heads[function], arguments, (name, function))
 
 
 if __name__ == "__main__":
