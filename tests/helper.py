@@ -127,6 +127,35 @@ def wrong_piles():
     return [(thing, "NoPiles", place) for thing, place in found]
 
 
+def wrong_wishes():
+    """(thing, class, place) of things that are no WISH of CHAIN."""
+    found = [(thing, None) for thing in wrong_kinds() + ["b", "abcd", (), Web(CHAIN)]]
+    found += [(("no",), 0), (("a", "no"), 1), (("a", "a"), 1), (("a", "b", "c", "d", "a"), 4), ((None,), 0)]
+    found += [(("a", None, "a"), 1), (("b", "b", None), 1), ((("a", "b"),), 0), (("a", ["b"]), 1), ((1, 1), 0)]
+    found += [(("a", True), 1), (("a", {}, "a"), 1), (("a", "B"), 1), (("d", "c", b"b"), 2), (("d", Odd()), 1)]
+    found += [(("a", "b", "c", "d", "e"), 4), (("a",) * 5000, 1), (("a", "b", set(), set()), 2), (("", "a"), 0)]
+    return [(thing, "NoWish", place) for thing, place in found]
+
+
+def wrong_weights():
+    """(thing, class, place) of things that are no WEIGHTS of CHAIN."""
+    found = [(thing, None) for thing in wrong_kinds() + [(), (1,), (1, 1), (1, 1, 1, 1), (None, None), (0,) * 4]]
+    found += [((0, 1, 1), 0), ((1, 1001, 1), 1), ((1, 1, -1), 2), ((1, 1, True), 2), ((False, 0, 0), 0)]
+    found += [((1, None, None), 1), (("1", 1, 1), 0), ((1, [1], 1), 1), ((1, 1, (1,)), 2), ((1, {}, 0), 1)]
+    found += [((1000, 1000, 10 ** 6000), 2), ((Odd(), 1, 1), 0), ((1, b"1", 1), 1), ((1, 1, set()), 2)]
+    return [(thing, "NoWeights", place) for thing, place in found]
+
+
+def wrong_torn():
+    """(thing, class, place) of things that are no TORN row of calls of CHAIN."""
+    found = [(thing, None) for thing in wrong_kinds() + ["b", "bcd", Web(CHAIN)]]
+    found += [((None,) * 31, None), (("b",) * 31, None), (("a",) * 31, None), ((5,) * 31, None)]
+    found += [(("a",), 0), ((None, "a"), 1), (("b", None, "no"), 2), ((None,) * 29 + ("a",), 29), ((0,), 0)]
+    found += [((False,), 0), (("b", True), 1), ((None, ["b"]), 1), ((("b",),), 0), ((None, {}, "a"), 1), ((b"b",), 0)]
+    found += [(("b", "c", "D"), 2), ((None, Odd()), 1), ((None, ""), 1), ((None, set(), "a"), 1), (((None,), "a"), 0)]
+    return [(thing, "NoTorn", place) for thing, place in found]
+
+
 def wrong_names_of(web):
     """(thing, class, thing) of things that are no NAME of the web."""
     return [(thing, "NoName", thing) for thing in wrong_names() + [None, "no", "zz"] if thing not in web.names()]
@@ -181,10 +210,22 @@ def check_refusals(test, function, good, wrong):
         check_refused(test, function, {**good, **all_wrong}, things[-1][1], things[-1][2])
 
 
-def check_told(test, function, given, want):
-    """By place and by their names, and again, the same is told, and what was handed in stays as it was."""
+def check_last(test, function, tight, wrong, many):
+    """TIGHT are arguments that are refused by TooMany alone; beside each wrong thing that one is refused instead."""
+    check_refused(test, function, tight, "TooMany", many)
+    for argument, things in wrong:
+        for thing, name, field in things:
+            check_refused(test, function, {**tight, argument: thing}, name, field)
+
+
+def check_told(test, function, given, want, **named):
+    """By place and by their names, and again, the same is told, and what was handed in stays as it was.
+
+    NAMED are handed in by their names alone.
+    """
     was = frozen(given)
-    for told in (function(*given.values()), function(**given), function(**dict(reversed(list(given.items()))))):
+    back = dict(reversed(list(given.items())))
+    for told in (function(*given.values(), **named), function(**given, **named), function(**named, **back)):
         test.assertEqual(told, want)
         test.assertIs(type(told), type(want))
     test.assertEqual(frozen(given), was)
@@ -271,3 +312,47 @@ def comes_from(web, row):
                 found.add(told)
                 left.append(told)
     return found
+
+
+def stands_so(row, wish):
+    """Whether the wish stands in its turn in a row."""
+    return [name for name in row if name in wish] == list(wish)
+
+
+def plain_move(web, stand, name):
+    """What comes of a move, read off the STAND's signs; None where it can't be done."""
+    whom = dict(web.persons)[name]
+    if whom in stand:
+        last = max(k for k, one in enumerate(stand) if one == whom)
+        first = min(k for k, one in enumerate(stand) if one == name)
+        if first != last + 1:
+            return None
+    return tuple(whom if one == name else one for one in stand)
+
+
+def plain_stands(web, wish):
+    """All STANDs that come of a wish."""
+    found = {wish}
+    left = [wish]
+    while left:
+        stand = left.pop()
+        for name in set(stand) & set(plain_follows(web)):
+            after = plain_move(web, stand, name)
+            if after is not None and after not in found:
+                found.add(after)
+                left.append(after)
+    return tuple(sorted(found))
+
+
+def plain_has(row, stand):
+    """Whether a row has a STAND."""
+    return stands_so(row, tuple(dict.fromkeys(stand)))
+
+
+def drawn_wish(chance, web, many):
+    return tuple(chance.sample(web.names(), min(many, len(web))))
+
+
+def all_wishes(web):
+    """Every WISH of a small web."""
+    return [wish for many in range(1, len(web) + 1) for wish in itertools.permutations(web.names(), many)]

@@ -20,6 +20,12 @@ FUNCTIONS = {
         "alike(web, calls, other)", "parting(web, calls, other)", "idle(web, calls)",
     ),
     "runs": ("bar(web, piles)", "runs(web, piles)", "fewest(web, piles)", "how_many(web, piles)"),
+    "turns": (
+        "stands(web, wish, *, most=MOST)", "way(web, row, wish, *, most=MOST)", "turn_of(web, row, one, other)",
+        "firm(web, row)",
+    ),
+    "shares": ("share(web, row, weights, wish, *, most=MOST)", "mean_ahead(web, row, weights, name)"),
+    "torn": ("readings(web, row, wish, torn, *, most=MOST)", "places(web, row, wish, torn, *, most=MOST)"),
     "rests": ("is_rest(web, row, thing)", "rests_many(web)", "rest_at(web, row, number)", "number_of(web, row, rest)"),
 }
 
