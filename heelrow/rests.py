@@ -86,7 +86,7 @@ def turn_number(web, size, lot, names):
         for name, left, many in choices(web, size, lot):
             if name < first:
                 number += many
-        lot = [name for name in lot if name != first]
+        lot = [other for other in lot if other != first]
     return number
 
 

@@ -61,8 +61,9 @@ def places(web, row, wish, torn, *, most=MOST):
     wanted = [{wish: 1}]
     for thing in torn[::-1]:
         wanted.append(counted(table, wanted[-1], names_for(web, thing)))
-    # From ROW on, only those STANDs are kept from which the first calls lead on from ROW.
-    kept = {stand: True for stand in wanted.pop() if has_stand(row, stand)}
+    # From ROW on those STANDs are kept that the calls read so far lead to from ROW.
+    level = wanted.pop()
+    kept = {stand: True for stand in level if has_stand(row, stand)}
     told = []
     for thing in torn:
         names = names_for(web, thing)
