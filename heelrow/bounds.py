@@ -10,6 +10,7 @@ MOST_COUNTED_CALLS = 30
 MOST_STANDS = 20000
 MOST_WEIGHT = 1000
 MOST_TORN = 30
+MOST_BOOK = 40
 
 
 def is_whole(thing, low, high):

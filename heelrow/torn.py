@@ -44,13 +44,21 @@ def counted(table, ways, names):
     return more
 
 
+def wanted_stands(web, table, wish, torn):
+    """For each place of TORN, from the last on, and one more, the STANDs that are wanted behind it, in how many ways.
+
+    Behind the last place this is WISH; the one more is what is wanted of the row ahead of all calls.
+    """
+    wanted = [{wish: 1}]
+    for thing in torn[::-1]:
+        wanted.append(counted(table, wanted[-1], names_for(web, thing)))
+    return wanted
+
+
 def readings(web, row, wish, torn, *, most=MOST):
     """How many readings of TORN there are behind which, from ROW, WISH stands in its turn."""
     check_all(web, row, wish, torn, most)
-    table = move_table(web, wish, most)
-    ways = {wish: 1}
-    for thing in torn[::-1]:
-        ways = counted(table, ways, names_for(web, thing))
+    ways = wanted_stands(web, move_table(web, wish, most), wish, torn)[-1]
     return sum([ways[stand] for stand in ways if has_stand(row, stand)])
 
 
@@ -58,9 +66,7 @@ def places(web, row, wish, torn, *, most=MOST):
     """For each place of TORN the NAMEs that stand there in a reading behind which WISH stands in its turn."""
     check_all(web, row, wish, torn, most)
     table = move_table(web, wish, most)
-    wanted = [{wish: 1}]
-    for thing in torn[::-1]:
-        wanted.append(counted(table, wanted[-1], names_for(web, thing)))
+    wanted = wanted_stands(web, table, wish, torn)
     # From ROW on those STANDs are kept that the calls read so far lead to from ROW.
     level = wanted.pop()
     kept = {stand: True for stand in level if has_stand(row, stand)}
@@ -72,3 +78,18 @@ def places(web, row, wish, torn, *, most=MOST):
         told.append(tuple(sorted({name for stand, name in steps})))
         kept = {stand: True for stand, name in steps}
     return tuple(told)
+
+
+def one_reading(web, row, torn, table, wanted):
+    """A reading by these wanted STANDs, None where there is none."""
+    near = [stand for stand in wanted[-1] if has_stand(row, stand)]
+    if not near:
+        return None
+    ahead = near[0]
+    calls = []
+    for thing, level in zip(torn, wanted[-2::-1]):
+        names = names_for(web, thing)
+        steps = [(name, stand) for stand in level for name, after in read(table, stand, names) if after == ahead]
+        name, ahead = steps[0]
+        calls.append(name)
+    return tuple(calls)

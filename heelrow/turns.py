@@ -69,6 +69,12 @@ def move_table(web, wish, most):
     return table
 
 
+def from_the_top(web, table):
+    """The STANDs of a table, each behind all that come of it by a move."""
+    # A move brings some of those in a STAND nearer to who leads, and nobody further off.
+    return sorted(table, key=lambda stand: sum([len(web.above(name)) for name in stand]))
+
+
 def stands(web, wish, *, most=MOST):
     """All STANDs that come of WISH by moves, rising."""
     check_web(web)

@@ -2,8 +2,10 @@
 
 import itertools
 import random
+from fractions import Fraction
 
 from heelrow import errors
+from heelrow.lines import Line
 from heelrow.webs import Web
 
 BASES = ("HeelError", "WhoError", "RoomError")
@@ -156,6 +158,33 @@ def wrong_torn():
     return [(thing, "NoTorn", place) for thing, place in found]
 
 
+def wrong_books():
+    """(thing, class, place) of things that are no BOOK."""
+    good, long = ("a", "b", "c"), tuple("abcdefghijklm")
+    found = [(thing, None) for thing in wrong_kinds() + ["a", "abc", (), Web(CHAIN)]]
+    found += [((good,) * 41, None), ((5,) * 41, None), ((None,) * 5000, None), ((("a",), []) * 30, None)]
+    found += [(((),), 0), ((good, ()), 1), ((long,), 0), ((long[:12], long[:12], long), 2), (("a", "b"), 0), ((5,), 0)]
+    found += [((good, ["a", "b", "c"]), 1), ((good, good, None, 5), 2), ((good, ("a", "b")), 1), ((["a"], ()), 0)]
+    found += [((good, ("a", "b", "d")), 1), ((good, ("a", "b", "b")), 1), ((("a", "a"), good), 0), ((good, (good,)), 1)]
+    found += [((good, ("a", "b", "c", "d")), 1), ((("a", "B"), good), 0), ((("a", None),), 0), (((1, 2), (2, 1)), 0)]
+    found += [((good, ("c", "b", True)), 1), ((("a", ""),), 0), ((good, good, ("a", ["b"], "c")), 2), ((({},),), 0)]
+    found += [((good,) * 39 + (("c", "b"),), 39), ((good,) * 39 + ("abc",), 39), ((good, {"a": 1, "b": 2, "c": 3}), 1)]
+    found += [((("a", 10 ** 6000),), 0), ((good, (b"a", "b", "c")), 1), (((Odd(),),), 0), ((good, good, (set(),)), 2)]
+    return [(thing, "NoBook", place) for thing, place in found]
+
+
+def wrong_deeds():
+    """Things that are not written as a DEED is."""
+    found = wrong_kinds() + ["a", "call b", "call", (), ("call",), ("call", "b", None), ("call", "b", "a"), ("back",)]
+    found += [("part",), ("part", "d", None), ("join", "x"), ("join", "x", "a", "a"), ("turn", "b"), ("turn",)]
+    found += [("Call", "b"), ("calls", "b"), ("", "b"), (None, "b"), (1, "b"), (True, "b"), (["call"], "b"), ("row", "b")]
+    found += [("call", None), ("call", 1), ("call", ["b"]), ("call", ("b",)), ("call", b"b"), ("part", {}), ("part", 0)]
+    found += [("join", None, None), ("join", 5, "a"), ("join", "x", 0), ("join", "x", False), ("join", "x", ["a"])]
+    found += [("turn", "b", ()), ("turn", "b", b"a"), ("turn", True, None), ("turn", {}, "a"), ("join", "x", Odd())]
+    found += [["call", "b"], ["turn", "b", None], (("call", "b"),), ("call", "b", "c", "d"), {"call": "b"}, ("turn", 1, 1)]
+    return found
+
+
 def wrong_names_of(web):
     """(thing, class, thing) of things that are no NAME of the web."""
     return [(thing, "NoName", thing) for thing in wrong_names() + [None, "no", "zz"] if thing not in web.names()]
@@ -171,6 +200,8 @@ def frozen(thing):
     """What can be told of a thing by which a change in it is seen."""
     if isinstance(thing, Web):
         return ("Web", thing.persons)
+    if isinstance(thing, Line):
+        return ("Line", thing.web().persons, thing.now(), thing.log())
     if isinstance(thing, (list, tuple)):
         return (type(thing), [frozen(one) for one in thing])
     if isinstance(thing, dict):
@@ -356,3 +387,179 @@ def drawn_wish(chance, web, many):
 def all_wishes(web):
     """Every WISH of a small web."""
     return [wish for many in range(1, len(web) + 1) for wish in itertools.permutations(web.names(), many)]
+
+
+def steps_from(web, row):
+    """For each row that comes from a row how few calls lead to it."""
+    found = {row: 0}
+    level = [row]
+    while level:
+        fresh = []
+        for at in level:
+            for name in plain_follows(web):
+                told = plain_called(web, at, name)
+                if told not in found:
+                    found[told] = found[at] + 1
+                    fresh.append(told)
+        level = fresh
+    return found
+
+
+def drawn_weights(chance, web):
+    most = chance.choice((1, 3, 50, 1000))
+    return tuple(chance.randint(1, most) for name in web.callable())
+
+
+def plain_share(web, row, weights, wish):
+    """The share by the rule for STANDs, word by word."""
+    weight = dict(zip(plain_follows(web), weights))
+    known = {}
+
+    def of(stand):
+        if stand not in known:
+            can = [name for name in dict.fromkeys(stand) if name in weight]
+            parts = [(name, plain_move(web, stand, name)) for name in can]
+            whole = sum(weight[name] for name in can)
+            known[stand] = Fraction(plain_has(row, stand)) if not can else sum(
+                (Fraction(weight[name], whole) * of(after) for name, after in parts if after is not None), Fraction(0))
+        return known[stand]
+
+    return of(wish)
+
+
+def as_pair(fraction):
+    """A Fraction as the program tells one."""
+    return (fraction.numerator, fraction.denominator)
+
+
+def drawn_torn(chance, web, many, unread):
+    """A torn row of calls of which about UNREAD in ten can't be read."""
+    follow = plain_follows(web)
+    return tuple(None if not follow or chance.randrange(10) < unread else chance.choice(follow) for k in range(many))
+
+
+def plain_readings(web, row, wish, torn):
+    """All readings behind which the wish stands, gone through one by one."""
+    sets = [plain_follows(web) if name is None else [name] for name in torn]
+    return [calls for calls in itertools.product(*sets) if stands_so(plain_done(web, row, calls), wish)]
+
+
+def home_of(web):
+    """The piles of no calls."""
+    return tuple((name,) for name in web.names())
+
+
+def one_more(web, some, name):
+    """The piles with one call more, at the front of the calls."""
+    at = dict(zip(web.names(), some))
+    whom = web.whom(name)
+    at[whom], at[name] = at[whom] + at[name], ()
+    return tuple(at[one] for one in web.names())
+
+
+def plain_comes(web):
+    """All piles of a small web that come, each with how few calls lay them, and how many such rows of calls."""
+    found = {home_of(web): (0, 1)}
+    level = [home_of(web)]
+    while level:
+        fresh = {}
+        for some in level:
+            for name in plain_follows(web):
+                more = one_more(web, some, name)
+                if more not in found:
+                    fresh[more] = fresh.get(more, 0) + found[some][1]
+        for more in fresh:
+            found[more] = (found[level[0]][0] + 1, fresh[more])
+        level = list(fresh)
+    return found
+
+
+def plain_bars(web, some):
+    """All that bars the piles, word by word as told."""
+    stand = {name: at for at, pile in zip(web.names(), some) for name in pile}
+    above = {name: naive_above(web.persons, name) for name in web.names()}
+    found = [("stray", name) for name in web.names() if stand[name] not in (name,) + above[name]]
+    pairs = [(high, low) for low in web.names() for high in above[low]]
+    found += [("below", *pair) for pair in pairs if stand[pair[0]] not in (stand[pair[1]],) + above[stand[pair[1]]]]
+    row = sum(some, ())
+    found += [("turn", *pair) for pair in pairs
+              if stand[pair[0]] == stand[pair[1]] and row.index(pair[0]) > row.index(pair[1])]
+    return found
+
+
+def plain_runs(web, some):
+    found = []
+    for name in plain_follows(web):
+        many = 0
+        for at, pile in zip(web.names(), some):
+            if at in naive_above(web.persons, name):
+                signs = "".join("x" if name in (one,) + naive_above(web.persons, one) else "." for one in pile)
+                many += len([part for part in signs.split(".") if part])
+        found.append((name, many))
+    return tuple(found)
+
+
+def drawn_piles(chance, web):
+    """Piles of a web that calls may lay or not."""
+    row = drawn_row(chance, web)
+    cuts = sorted(chance.randrange(len(web) + 1) for k in range(len(web) - 1))
+    ends = [0] + cuts + [len(web)]
+    return tuple(row[ends[k]:ends[k + 1]] for k in range(len(web)))
+
+
+def drawn_book(chance, web, many):
+    """A book of so many rows that drawn calls of the web make."""
+    book = [drawn_row(chance, web)]
+    for name in drawn_calls(chance, web, many - 1):
+        book.append(plain_called(web, book[-1], name))
+    return tuple(book)
+
+
+def loose_book(chance, names, many):
+    """A book of so many rows in each of which two neighbours change places, or one steps anywhere, or nobody does."""
+    row = chance.sample(list(names), len(names))
+    book = [tuple(row)]
+    while len(book) < many:
+        at = chance.randrange(len(row))
+        one = row.pop(at)
+        row.insert(chance.choice((at, at + 1, at + 1, chance.randrange(len(row) + 1))), one)
+        book.append(tuple(row))
+    return tuple(book)
+
+
+def plain_steps(book):
+    """For each step all (X, Y), by stepping out and in."""
+    found = []
+    for row, after in zip(book, book[1:]):
+        ways = []
+        for one in sorted(row):
+            rest = [name for name in row if name != one]
+            for at, whom in enumerate(rest):
+                if tuple(rest[:at + 1] + [one] + rest[at + 1:]) == after:
+                    ways.append((one, whom))
+        found.append(tuple(sorted(ways)))
+    return tuple(found)
+
+
+def plain_tells(persons, book):
+    whoms = dict(persons)
+    return sorted(whoms) == sorted(book[0]) and all(
+        any(whoms[one] == whom for one, whom in ways) for ways in plain_steps(book))
+
+
+def plain_clash(taken):
+    """Whether by those taken somebody follows two, or comes to themselves."""
+    whoms = dict(taken)
+    return len(set(taken)) > len(whoms) or has_ring(tuple(whoms.items()))
+
+
+def plain_tree(ways, tree, taken=(), used=()):
+    """Whether a tree is one, word by word as told."""
+    if tree is None:
+        return plain_clash(taken)
+    if type(tree) is not tuple or len(tree) != 2 or type(tree[0]) is not int or type(tree[1]) is not tuple:
+        return False
+    number, trees = tree
+    if number in used or not 0 <= number < len(ways) or len(trees) != len(ways[number]):
+        return False
+    return all(plain_tree(ways, one, taken + (way,), used + (number,)) for one, way in zip(trees, ways[number]))

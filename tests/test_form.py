@@ -26,8 +26,21 @@ FUNCTIONS = {
     ),
     "shares": ("share(web, row, weights, wish, *, most=MOST)", "mean_ahead(web, row, weights, name)"),
     "torn": ("readings(web, row, wish, torn, *, most=MOST)", "places(web, row, wish, torn, *, most=MOST)"),
+    "books": (
+        "steps(book)", "tells(web, book)", "web_for(book)", "webs_many(book, *, most=MOST)", "sure(book)",
+    ),
+    "checker": ("holds(claim, paper)",),
+    "papers": (
+        "paper_alike(web, calls, other)", "paper_piles(web, piles)", "paper_way(web, row, wish, *, most=MOST)",
+        "paper_share(web, row, weights, wish, *, most=MOST)", "paper_torn(web, row, wish, torn, *, most=MOST)",
+        "paper_book(book)",
+    ),
     "rests": ("is_rest(web, row, thing)", "rests_many(web)", "rest_at(web, row, number)", "number_of(web, row, rest)"),
 }
+
+
+# What the checker may be made of: stages 1 and 3, and parts that nobody else imports.
+CHECKER = ("bounds.py", "errors.py", "webs.py", "rows.py")
 
 
 def files():
@@ -38,6 +51,15 @@ def files():
             with open(os.path.join(PACKAGE, name), encoding="utf-8", newline="") as held:
                 found[name] = held.read()
     return found
+
+
+def imports():
+    """For each file the files from which it imports."""
+    needs = {}
+    for name, text in files().items():
+        modules = [node.module for node in ast.walk(ast.parse(text)) if isinstance(node, ast.ImportFrom)]
+        needs[name] = {module.split(".")[1] + ".py" for module in modules}
+    return needs
 
 
 def nodes():
@@ -136,11 +158,20 @@ class Code(unittest.TestCase):
             if isinstance(node, ast.arg):
                 self.assertRegex(node.arg, r"^[a-z][a-z0-9_]*$", (name, node.lineno))
 
+    def test_the_checker_imports_stages_1_and_3_and_its_own_parts(self):
+        needs = imports()
+        found, left = set(), ["checker.py"]
+        while left:
+            found.add(left[0])
+            left = left[1:] + [name for name in sorted(needs[left[0]]) if name not in found]
+        own = found - set(CHECKER)
+        for name in own - {"checker.py"}:
+            self.assertNotIn(name[:-3], FUNCTIONS)
+            self.assertEqual({other for other in needs if name in needs[other]} - own, set(), name)
+        self.assertEqual(own, {"checker.py", "checkbooks.py", "checkpiles.py", "checkstands.py"})
+
     def test_no_two_files_import_from_each_other(self):
-        needs = {}
-        for name, text in files().items():
-            modules = [node.module for node in ast.walk(ast.parse(text)) if isinstance(node, ast.ImportFrom)]
-            needs[name] = {module.split(".")[1] + ".py" for module in modules}
+        needs = imports()
         while needs:
             free = [name for name in needs if not needs[name] & set(needs)]
             self.assertNotEqual(free, [], sorted(needs))

@@ -6,20 +6,12 @@ from heelrow.piles import again, alike, behind, idle, laid, parting, piles
 from heelrow.webs import Web
 from tests.helper import (
     ALONE, CHAIN, LEADERS, SEVERAL, STAR, TWELVE, all_piles, all_rows, check_refusals, check_refused, check_told,
-    drawn_calls, drawn_row, drawn_webs, plain_done, plain_laid, small_webs, wrong_calls, wrong_piles, wrong_rows,
-    wrong_webs, wrong_wholes,
+    drawn_calls, drawn_piles, drawn_row, drawn_webs, plain_done, plain_laid, small_webs, wrong_calls, wrong_piles,
+    wrong_rows, wrong_webs, wrong_wholes,
 )
 
 TURNED = (("b",), ("c",), ("d",), ("a",))
 HOME = (("a",), ("b",), ("c",), ("d",))
-
-
-def drawn_piles(chance, web):
-    """Piles of a web that calls may lay or not."""
-    row = drawn_row(chance, web)
-    cuts = sorted(chance.randrange(len(web) + 1) for k in range(len(web) - 1))
-    ends = [0] + cuts + [len(web)]
-    return tuple(row[ends[k]:ends[k + 1]] for k in range(len(web)))
 
 
 def few_calls(web, most):

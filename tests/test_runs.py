@@ -6,7 +6,8 @@ from heelrow.runs import bar, fewest, how_many, runs
 from heelrow.webs import Web
 from tests.helper import (
     ALONE, CHAIN, LEADERS, SAMPLES, SEVERAL, STAR, TWELVE, all_piles, check_refusals, check_refused, check_told,
-    drawn_calls, drawn_row, drawn_webs, naive_above, plain_done, plain_follows, small_webs, wrong_piles, wrong_webs,
+    drawn_calls, drawn_row, drawn_webs, home_of, one_more, plain_bars, plain_comes, plain_done, plain_follows,
+    plain_runs, small_webs, wrong_piles, wrong_webs,
 )
 
 ASKED = (runs, fewest, how_many)
@@ -15,84 +16,30 @@ BRAID = (("a", None), ("b", "a"), ("c", "a")) + tuple(("abcdefghijk"[k], "abcdef
 BRAIDED = (tuple("abcdefghijk"),) + ((),) * 10
 
 
-def home(web):
-    return tuple((name,) for name in web.names())
-
-
-def step(web, some, name):
-    """The piles with one call more, at the front of the calls."""
-    at = dict(zip(web.names(), some))
-    whom = web.whom(name)
-    at[whom], at[name] = at[whom] + at[name], ()
-    return tuple(at[one] for one in web.names())
-
-
-def plain_comes(web):
-    """All piles of a small web that come, each with how few calls lay them, and how many such rows of calls."""
-    found = {home(web): (0, 1)}
-    level = [home(web)]
-    while level:
-        fresh = {}
-        for some in level:
-            for name in plain_follows(web):
-                more = step(web, some, name)
-                if more not in found:
-                    fresh[more] = fresh.get(more, 0) + found[some][1]
-        for more in fresh:
-            found[more] = (found[level[0]][0] + 1, fresh[more])
-        level = list(fresh)
-    return found
-
-
 def least_of_name(web, name):
     """For all piles that come how few calls of NAME, with any others, lay them."""
-    found = {home(web): 0}
-    many, level = 0, [home(web)]
+    found = {home_of(web): 0}
+    many, level = 0, [home_of(web)]
     while level:
         left = list(level)
         while left:
             some = left.pop()
             for other in plain_follows(web):
-                more = step(web, some, other)
+                more = one_more(web, some, other)
                 if other != name and more not in found:
                     found[more] = many
                     left.append(more)
                     level.append(more)
-        level = [more for more in {step(web, some, name) for some in level} if more not in found]
+        level = [more for more in {one_more(web, some, name) for some in level} if more not in found]
         many += 1
         for more in level:
             found[more] = many
     return found
 
 
-def plain_bars(web, some):
-    """All that bars the piles, word by word as told."""
-    stand = {name: at for at, pile in zip(web.names(), some) for name in pile}
-    above = {name: naive_above(web.persons, name) for name in web.names()}
-    found = [("stray", name) for name in web.names() if stand[name] not in (name,) + above[name]]
-    pairs = [(high, low) for low in web.names() for high in above[low]]
-    found += [("below", *pair) for pair in pairs if stand[pair[0]] not in (stand[pair[1]],) + above[stand[pair[1]]]]
-    row = sum(some, ())
-    found += [("turn", *pair) for pair in pairs
-              if stand[pair[0]] == stand[pair[1]] and row.index(pair[0]) > row.index(pair[1])]
-    return found
-
-
 def plain_bar(web, some):
     turn = ("stray", "below", "turn")
     return min(plain_bars(web, some), key=lambda one: (turn.index(one[0]), one[1:]), default=None)
-
-
-def plain_runs(web, some):
-    found = []
-    for name in plain_follows(web):
-        many = 0
-        for at, pile in zip(web.names(), some):
-            if at in naive_above(web.persons, name):
-                signs = "".join("x" if name in (one,) + naive_above(web.persons, one) else "." for one in pile)
-                many += len([part for part in signs.split(".") if part])
-        found.append((name, many))
-    return tuple(found)
 
 
 class Bar(unittest.TestCase):
@@ -138,11 +85,11 @@ class Bar(unittest.TestCase):
 class Runs(unittest.TestCase):
     def test_told(self):
         web = Web(CHAIN)
-        self.assertEqual(runs(web, home(web)), (("b", 0), ("c", 0), ("d", 0)))
+        self.assertEqual(runs(web, home_of(web)), (("b", 0), ("c", 0), ("d", 0)))
         self.assertEqual(runs(web, (("a", "b", "c"), ("d",), (), ())), (("b", 1), ("c", 2), ("d", 1)))
         self.assertEqual(runs(web, (("a", "b", "c", "d"), (), (), ())), (("b", 1), ("c", 1), ("d", 1)))
         self.assertEqual(runs(Web(ALONE), (("a",),)), ())
-        self.assertEqual(runs(Web(LEADERS), home(Web(LEADERS))), ())
+        self.assertEqual(runs(Web(LEADERS), home_of(Web(LEADERS))), ())
         several = Web(SEVERAL)
         some = (("ann", "bob", "dee", "cy"), (), (), (), ("eve",), ("fay",), ("gus",))
         self.assertEqual(runs(several, some), (("bob", 2), ("cy", 1), ("dee", 1), ("fay", 0)))
@@ -173,7 +120,7 @@ class Fewest(unittest.TestCase):
 
     def test_told(self):
         web = Web(CHAIN)
-        self.assertEqual(fewest(web, home(web)), ())
+        self.assertEqual(fewest(web, home_of(web)), ())
         self.assertEqual(fewest(web, (("a", "b", "c", "d"), (), (), ())), ("b", "c", "d"))
         self.assertEqual(fewest(web, (("a", "b"), ("c",), (), ("d",))), ("c", "b"))
         self.assertEqual(fewest(Web(ALONE), (("a",),)), ())
@@ -205,11 +152,11 @@ class Fewest(unittest.TestCase):
 class HowMany(unittest.TestCase):
     def test_told(self):
         web = Web(CHAIN)
-        self.assertEqual(how_many(web, home(web)), 1)
+        self.assertEqual(how_many(web, home_of(web)), 1)
         self.assertEqual(how_many(web, (("a", "b", "c", "d"), (), (), ())), 1)
         self.assertEqual(how_many(web, (("a", "b"), (), ("c", "d"), ())), 2)
         self.assertEqual(how_many(Web(ALONE), (("a",),)), 1)
-        self.assertEqual(how_many(Web(LEADERS), home(Web(LEADERS))), 1)
+        self.assertEqual(how_many(Web(LEADERS), home_of(Web(LEADERS))), 1)
         six = Web(tuple((name, None) for name in "abcdef") + tuple(zip("ghijkl", "abcdef")))
         self.assertEqual(how_many(six, tuple(zip("abcdef", "ghijkl")) + ((),) * 6), 720)
 
@@ -225,13 +172,13 @@ class HowMany(unittest.TestCase):
         web = Web((("a", None), ("b", "a"), ("c", "a"), ("d", "b"), ("e", None), ("f", "e"), ("g", "f")))
         some = piles(web, ("d", "b", "c", "f", "g", "d", "b"))
         counts = dict(plain_runs(web, some))
-        found = {(home(web), ()): 1}
+        found = {(home_of(web), ()): 1}
         for k in range(sum(counts.values())):
             more = {}
             for (at, used), ways in found.items():
                 for name in web.callable():
                     if used.count(name) < counts[name]:
-                        key = (step(web, at, name), tuple(sorted(used + (name,))))
+                        key = (one_more(web, at, name), tuple(sorted(used + (name,))))
                         more[key] = more.get(key, 0) + ways
             found = more
         self.assertEqual(how_many(web, some), sum(ways for (at, used), ways in found.items() if at == some))
@@ -262,12 +209,12 @@ def thirty_ways():
     """How many rows of calls lay the braid, counted from home on, of piles from which the braid can still come."""
     web = Web(BRAID)
     counts = dict(plain_runs(web, BRAIDED))
-    found = {(home(web), tuple(sorted(counts.items()))): 1}
+    found = {(home_of(web), tuple(sorted(counts.items()))): 1}
     for k in range(30):
         more = {}
         for (at, left), ways in found.items():
             for name, many in left:
-                then = step(web, at, name)
+                then = one_more(web, at, name)
                 # Who has come to stand in a pile of who leads stays there for good, so that pile must begin the braid.
                 if many > 0 and at[web.names().index(name)] and then[0] == BRAIDED[0][:len(then[0])]:
                     key = (then, tuple((one, had - (one == name)) for one, had in left))
@@ -305,8 +252,8 @@ class Refused(unittest.TestCase):
             web = Web(persons)
             if not web.callable():
                 for some in all_piles(web)[:200]:
-                    self.assertIs(bar(web, some) is None, some == home(web))
-                    self.assertEqual(laid(web, web.names(), home(web)), web.names())
+                    self.assertIs(bar(web, some) is None, some == home_of(web))
+                    self.assertEqual(laid(web, web.names(), home_of(web)), web.names())
 
 
 if __name__ == "__main__":

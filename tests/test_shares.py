@@ -7,10 +7,10 @@ from math import gcd
 from heelrow.shares import mean_ahead, share
 from heelrow.webs import Web
 from tests.helper import (
-    ALONE, CHAIN, LEADERS, SEVERAL, STAR, TWELVE, TWELVE_STAR, all_rows, all_wishes, check_last, check_refusals,
-    check_refused, check_told, comes_from, drawn_row, drawn_webs, drawn_wish, plain_called, plain_follows, plain_has,
-    plain_move, plain_stands, small_webs, stands_so, wrong_names_of, wrong_rows, wrong_webs, wrong_weights,
-    wrong_wholes, wrong_wishes,
+    ALONE, CHAIN, LEADERS, SEVERAL, STAR, TWELVE, TWELVE_STAR, all_rows, all_wishes, as_pair, check_last,
+    check_refusals, check_refused, check_told, comes_from, drawn_row, drawn_webs, drawn_weights, drawn_wish,
+    plain_called, plain_follows, plain_share, plain_stands, small_webs, stands_so, wrong_names_of, wrong_rows,
+    wrong_webs, wrong_weights, wrong_wholes, wrong_wishes,
 )
 
 MOSTS = wrong_wholes("NoCount", 1, 20000)
@@ -18,11 +18,6 @@ MOSTS = wrong_wholes("NoCount", 1, 20000)
 
 def ones(web):
     return (1,) * len(web.callable())
-
-
-def drawn_weights(chance, web):
-    most = chance.choice((1, 3, 50, 1000))
-    return tuple(chance.randint(1, most) for name in web.callable())
 
 
 def long_run(web, row, weights):
@@ -48,27 +43,6 @@ def solved(table):
             if j != k and table[j][k] != 0:
                 table[j] = [one - table[j][k] * two for one, two in zip(table[j], table[k])]
     return [line[-1] for line in table]
-
-
-def plain_share(web, row, weights, wish):
-    """The share by the rule for STANDs, word by word."""
-    weight = dict(zip(plain_follows(web), weights))
-    known = {}
-
-    def of(stand):
-        if stand not in known:
-            can = [name for name in dict.fromkeys(stand) if name in weight]
-            parts = [(name, plain_move(web, stand, name)) for name in can]
-            whole = sum(weight[name] for name in can)
-            known[stand] = Fraction(plain_has(row, stand)) if not can else sum(
-                (Fraction(weight[name], whole) * of(after) for name, after in parts if after is not None), Fraction(0))
-        return known[stand]
-
-    return of(wish)
-
-
-def pair(fraction):
-    return (fraction.numerator, fraction.denominator)
 
 
 class Checked(unittest.TestCase):
@@ -115,10 +89,10 @@ class Share(Checked):
                 self.assertEqual(sum(rows.values()), 1)
                 for wish in all_wishes(web):
                     want = sum((rows[one] for one in rows if stands_so(one, wish)), Fraction(0))
-                    self.assertEqual(share(web, row, weights, wish), pair(want))
+                    self.assertEqual(share(web, row, weights, wish), as_pair(want))
                 for name in web.names():
                     want = sum((rows[one] * one.index(name) for one in rows), Fraction(0))
-                    self.assertEqual(mean_ahead(web, row, weights, name), pair(want))
+                    self.assertEqual(mean_ahead(web, row, weights, name), as_pair(want))
 
     def test_of_five(self):
         chance = random.Random(61)
@@ -128,7 +102,7 @@ class Share(Checked):
             rows = long_run(web, row, weights)
             for wish in all_wishes(web)[::3]:
                 want = sum((rows[one] for one in rows if stands_so(one, wish)), Fraction(0))
-                self.assertEqual(share(web, row, weights, wish), pair(want))
+                self.assertEqual(share(web, row, weights, wish), as_pair(want))
 
     def test_drawn(self):
         chance = random.Random(62)
@@ -138,7 +112,7 @@ class Share(Checked):
                 given = {"web": web, "row": row, "weights": weights, "wish": wish}
                 told = share(**given, most=20000)
                 self.check_fraction(told)
-                check_told(self, share, given, pair(plain_share(**given)), most=20000)
+                check_told(self, share, given, as_pair(plain_share(**given)), most=20000)
 
     def test_all_turns_make_up_one(self):
         chance = random.Random(64)
@@ -156,7 +130,7 @@ class Share(Checked):
         told = share(**given)
         self.check_fraction(told)
         self.assertTrue(0 < told[0] < told[1])
-        self.assertEqual(told, pair(plain_share(**given)))
+        self.assertEqual(told, as_pair(plain_share(**given)))
         self.assertEqual(share(web, web.names(), (1000,) * 11, wish), share(web, web.names(), ones(web), wish))
 
     def test_most(self):
@@ -167,7 +141,7 @@ class Share(Checked):
         check_told(self, share, good, (1, 1), most=4862)
         many = len(plain_stands(Web(STAR), ("a", "b", "z")))
         good = {"web": Web(STAR), "row": Web(STAR).names(), "weights": (1, 2, 3), "wish": ("a", "b", "z")}
-        check_told(self, share, good, pair(plain_share(**good)), most=many)
+        check_told(self, share, good, as_pair(plain_share(**good)), most=many)
         check_refused(self, share, {**good, "most": many - 1}, "TooMany", many - 1)
         with self.assertRaises(TypeError):
             share(Web(ALONE), ("a",), (), ("a",), 5)
@@ -194,7 +168,7 @@ class MeanAhead(Checked):
         self.assertEqual(mean_ahead(web, row, (1, 1, 1), "mid"), (0, 1))
         self.assertEqual(mean_ahead(web, row, (1, 1, 1), "a"), (2, 1))
         # Ahead of a: mid for ever, b 4 of 6, z 5 of 7.
-        self.assertEqual(mean_ahead(web, row, (2, 4, 5), "a"), pair(1 + Fraction(4, 6) + Fraction(5, 7)))
+        self.assertEqual(mean_ahead(web, row, (2, 4, 5), "a"), as_pair(1 + Fraction(4, 6) + Fraction(5, 7)))
         self.assertEqual(mean_ahead(Web(ALONE), ("a",), (), "a"), (0, 1))
         self.assertEqual(mean_ahead(Web(LEADERS), ("ab", "a", "abcdef", "aa"), (), "abcdef"), (2, 1))
         chain = Web(TWELVE)
@@ -210,7 +184,7 @@ class MeanAhead(Checked):
                 want = sum((plain_share(web, row, weights, (other, name)) for other in others), Fraction(0))
                 told = mean_ahead(web, row, weights, name)
                 self.check_fraction(told)
-                check_told(self, mean_ahead, {"web": web, "row": row, "weights": weights, "name": name}, pair(want))
+                check_told(self, mean_ahead, {"web": web, "row": row, "weights": weights, "name": name}, as_pair(want))
                 whole += Fraction(*told)
             # Of n persons 0, 1, .. n - 1 stand ahead, whoever they are.
             self.assertEqual(whole, len(web) * (len(web) - 1) // 2)

@@ -7,23 +7,12 @@ from heelrow.turns import way
 from heelrow.webs import Web
 from tests.helper import (
     ALONE, CHAIN, LEADERS, SEVERAL, STAR, TWELVE, TWELVE_STAR, all_rows, all_wishes, check_last, check_refusals,
-    check_refused, check_told, drawn_row, drawn_webs, drawn_wish, plain_done, plain_follows, plain_stands, small_webs,
-    stands_so, wrong_rows, wrong_torn, wrong_webs, wrong_wholes, wrong_wishes,
+    check_refused, check_told, drawn_row, drawn_torn, drawn_webs, drawn_wish, plain_done, plain_follows,
+    plain_readings, plain_stands, small_webs, stands_so, wrong_rows, wrong_torn, wrong_webs, wrong_wholes,
+    wrong_wishes,
 )
 
 MOSTS = wrong_wholes("NoCount", 1, 20000)
-
-
-def drawn_torn(chance, web, many, unread):
-    """A torn row of calls of which about UNREAD in ten can't be read."""
-    follow = plain_follows(web)
-    return tuple(None if not follow or chance.randrange(10) < unread else chance.choice(follow) for k in range(many))
-
-
-def plain_readings(web, row, wish, torn):
-    """All readings behind which the wish stands, gone through one by one."""
-    sets = [plain_follows(web) if name is None else [name] for name in torn]
-    return [calls for calls in itertools.product(*sets) if stands_so(plain_done(web, row, calls), wish)]
 
 
 def plain_places(torn, found):

@@ -5,28 +5,12 @@ from heelrow.turns import firm, stands, turn_of, way
 from heelrow.webs import Web
 from tests.helper import (
     ALONE, CHAIN, LEADERS, SEVERAL, STAR, TWELVE, TWELVE_STAR, all_rows, all_wishes, check_last, check_refusals,
-    check_refused, check_told, comes_from, drawn_calls, drawn_row, drawn_webs, drawn_wish, plain_called, plain_done,
-    plain_follows, plain_has, plain_stands, small_webs, stands_so, wrong_names_of, wrong_rows, wrong_webs, wrong_wholes,
+    check_refused, check_told, comes_from, drawn_calls, drawn_row, drawn_webs, drawn_wish, plain_done, plain_follows,
+    plain_has, plain_stands, small_webs, stands_so, steps_from, wrong_names_of, wrong_rows, wrong_webs, wrong_wholes,
     wrong_wishes,
 )
 
 MOSTS = wrong_wholes("NoCount", 1, 20000)
-
-
-def steps_from(web, row):
-    """For each row that comes from a row how few calls lead to it."""
-    found = {row: 0}
-    level = [row]
-    while level:
-        fresh = []
-        for at in level:
-            for name in plain_follows(web):
-                told = plain_called(web, at, name)
-                if told not in found:
-                    found[told] = found[at] + 1
-                    fresh.append(told)
-        level = fresh
-    return found
 
 
 class Stands(unittest.TestCase):
