@@ -11,6 +11,7 @@ MOST_STANDS = 20000
 MOST_WEIGHT = 1000
 MOST_TORN = 30
 MOST_BOOK = 40
+MOST_DRAWN = 60
 
 
 def is_whole(thing, low, high):

@@ -6,7 +6,7 @@ from heelrow.piles import parting
 from heelrow.runs import bar, fewest
 from heelrow.shares import check_asked, shares_of
 from heelrow.torn import check_all, one_reading, wanted_stands
-from heelrow.turns import move_table, stands, way
+from heelrow.turns import check_most, move_table, stands, way
 
 
 def paper_alike(web, calls, other):
@@ -48,7 +48,8 @@ def paper_way(web, row, wish, *, most=MOST):
 
 def paper_share(web, row, weights, wish, *, most=MOST):
     """The share of time in which WISH stands in its turn."""
-    check_asked(web, row, weights, wish, most)
+    check_asked(web, row, weights, wish)
+    check_most(most)
     shares = shares_of(web, row, weights, wish, most)
     return (("share", web.persons, row, weights, wish, shares[wish]), tuple(sorted(shares.items())))
 

@@ -47,18 +47,18 @@ def shares_of(web, row, weights, wish, most):
     return shares
 
 
-def check_asked(web, row, weights, wish, most):
+def check_asked(web, row, weights, wish):
     """Refuse what isn't as told, by arguments from the left."""
     check_web(web)
     check_row(web, row)
     check_weights(web, weights)
     check_wish(web, wish)
-    check_most(most)
 
 
 def share(web, row, weights, wish, *, most=MOST):
     """The share of time, in the long run from ROW, in which WISH stands in its turn."""
-    check_asked(web, row, weights, wish, most)
+    check_asked(web, row, weights, wish)
+    check_most(most)
     return shares_of(web, row, weights, wish, most)[wish]
 
 

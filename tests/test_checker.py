@@ -527,6 +527,11 @@ class Edges(unittest.TestCase):
         self.assertIs(holds(("nearest", CHAIN, ("c", "b", "a", "d"), wish, 2), (("b", "c"), levels)), True)
         self.assertIs(holds(("nearest", CHAIN, ("c", "b", "a", "d"), wish, 2), (("b", "c"), levels[::-1])), False)
         self.assertIs(holds(("nearest", CHAIN, ("c", "b", "a", "d"), wish, 2), (("b", "c"), levels, ())), False)
+        # Each that comes by a move is wanted in the next level, else more calls than need be were taken as the fewest.
+        for at in range(len(levels[1])):
+            less = levels[1][:at] + levels[1][at + 1:]
+            self.assertIs(holds(("nearest", CHAIN, ("c", "b", "a", "d"), wish, 2), (("b", "c"), (levels[0], less))), False)
+        self.assertIs(holds(("nearest", CHAIN, row, ("a", "b"), 2), (("b", "b"), ((("a", "b"),), ()))), False)
 
     def test_share(self):
         row = ("z", "b", "mid", "a")
@@ -587,6 +592,10 @@ class Edges(unittest.TestCase):
         self.assertIs(holds(("tells", web, (abc, abc)), False), False)
         self.assertIs(holds(("untold", (abc,)), None), False)
         self.assertIs(holds(("untold", (("a",), ("a",))), (0, ())), True)
+        self.assertIs(holds(("untold", ((), ())), (0, ())), False)
+        self.assertIs(holds(("untold", (("a", "a"),) * 2), (0, ())), False)
+        self.assertIs(holds(("untold", (tuple("abcdefghijklm"), tuple("mlkjihgfedcba"))), (0, ())), False)
+        self.assertIs(holds(("untold", (tuple("abcdefghijkl"), tuple("lkjihgfedcba"))), (0, ())), True)
         self.assertIs(holds(("untold", (("a",), ("a",))), (False, ())), False)
         self.assertIs(holds(("untold", (("a",), ("a",), ("a",))), (True, ())), False)
         self.assertIs(holds(("untold", (("a",), ("a",))), (1, ())), False)

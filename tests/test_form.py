@@ -2,6 +2,7 @@
 
 import ast
 import builtins
+import importlib
 import os
 import re
 import unittest
@@ -14,6 +15,7 @@ WORDS = (
 INSIDE = ("dataclass", "overload", "contextmanager")
 FUNCTIONS = {
     "webs": ("is_name(thing)",),
+    "webtexts": ("read_web(text)",),
     "rows": ("is_row(web, thing)", "called(web, row, name)", "done(web, row, calls)"),
     "piles": (
         "laid(web, row, piles)", "piles(web, calls)", "behind(web, piles, other)", "again(web, piles, times)",
@@ -24,6 +26,8 @@ FUNCTIONS = {
         "stands(web, wish, *, most=MOST)", "way(web, row, wish, *, most=MOST)", "turn_of(web, row, one, other)",
         "firm(web, row)",
     ),
+    "sures": tuple(name + "(web, row, other, *, most=MOST)" for name in ("musts", "firsts", "lasts")),
+    "chances": ("chance(web, row, weights, wish, many, *, most=MOST)",),
     "shares": ("share(web, row, weights, wish, *, most=MOST)", "mean_ahead(web, row, weights, name)"),
     "torn": ("readings(web, row, wish, torn, *, most=MOST)", "places(web, row, wish, torn, *, most=MOST)"),
     "books": (
@@ -39,6 +43,20 @@ FUNCTIONS = {
 }
 
 
+CLASSES = {
+    "webs": {"Web": (
+        "__init__(self, persons)", "names(self)", "whom(self, name)", "leaders(self)", "callable(self)",
+        "followers(self, name)", "above(self, name)", "below(self, name)", "high(self)", "joined(self, name, whom)",
+        "parted(self, name)", "turned(self, name, whom)", "__eq__(self, other)", "__len__(self)", "__str__(self)",
+        "__repr__(self)",
+    )},
+    "lines": {"Line": (
+        "__init__(self, web, row)", "do(self, deed)", "do_all(self, deeds)", "back(self)", "web(self)", "now(self)",
+        "log(self)", "piles(self)", "__eq__(self, other)", "__len__(self)", "__str__(self)", "__repr__(self)",
+    )},
+    "desk": {"Desk": ("__init__(self, web, row)", "say(self, row)")},
+}
+VALUES = {"bounds": {"MOST": 2000, "BIG": 10 ** 30}, "lines": {"MOST_DEEDS": 2000}}
 # What the checker may be made of: stages 1 and 3, and parts that nobody else imports.
 CHECKER = ("bounds.py", "errors.py", "webs.py", "rows.py")
 
@@ -197,14 +215,39 @@ def defined(text):
     return found
 
 
+def heads(body):
+    """For each function of a body its arguments."""
+    return {node.name: ast.unparse(node.args) for node in body if isinstance(node, ast.FunctionDef)}
+
+
 class Interface(unittest.TestCase):
+    def check_heads(self, found, listed, where):
+        for one in listed:
+            function, arguments = one.rstrip(")").split("(")
+            self.assertEqual(found[function], arguments, (where, function))
+
     def test_each_function_stands_in_its_file_with_its_arguments(self):
         for name, functions in FUNCTIONS.items():
-            text = files()[name + ".py"]
-            heads = {node.name: ast.unparse(node.args) for node in ast.parse(text).body if isinstance(node, ast.FunctionDef)}
-            for one in functions:
-                function, arguments = one.rstrip(")").split("(")
-                self.assertEqual(heads[function], arguments, (name, function))
+            self.check_heads(heads(ast.parse(files()[name + ".py"]).body), functions, name)
+
+    def test_each_class_stands_in_its_file_with_its_methods(self):
+        for name, classes in CLASSES.items():
+            body = ast.parse(files()[name + ".py"]).body
+            found = {node.name: node for node in body if isinstance(node, ast.ClassDef)}
+            for one, methods in classes.items():
+                self.check_heads(heads(found[one].body), methods, one)
+
+    def test_each_value_stands_in_its_file(self):
+        for name, values in VALUES.items():
+            module = importlib.import_module("heelrow." + name)
+            for one, want in values.items():
+                self.assertIn(one, defined(files()[name + ".py"]))
+                self.assertEqual(getattr(module, one), want)
+
+    def test_each_module_can_be_imported_alone(self):
+        for name in files():
+            module = importlib.import_module("heelrow." + name[:-3] if name != "__init__.py" else "heelrow")
+            self.assertEqual(os.path.basename(module.__file__), name)
 
 
 if __name__ == "__main__":
